@@ -1,0 +1,1 @@
+"""Searching for words by sliding windows, judged for all texts."""
