@@ -4,6 +4,13 @@ import itertools
 
 from wordskips.errors import BadLetters
 from wordskips.makers import made
+from wordskips.ratios import Ratio
+from wordskips.rings import best_ring
+from wordskips.runs import trace
+from wordskips.searchers import Searcher
+from wordskips.weaves import Weave, far
+
+NAMES = ["A", "BB", "ZEBRA", "CAB", "EIGHTLET", "X"]
 
 
 class Draws:
@@ -32,9 +39,17 @@ def any_values():
     return [
         None, True, False, [], (), {}, [None], (None,), [[]], {"a": 1}, {"ab": ["ab"]}, {1: (2, [3])}, [["ab"]],
         (("ab",), "ab"), [True, False], ["a", 1, None, ("b", {})], deep, searcher, [searcher], (searcher, [searcher]),
-        {"ab": searcher}, BadLetters("x"), [BadLetters(None)], "", "-", "A", "ab ", "a\n", "\u00e4b", "\u0661",
+        {"ab": searcher}, BadLetters("x"), [BadLetters(None)], *objects(searcher), "", "-", "A", "ab ", "a\n", "\u00e4b", "\u0661",
         -1, 10 ** 39, -(10 ** 39),
     ]
+
+
+def objects(searcher):
+    """Objects of the package, alone and within others."""
+    weave = Weave("ab", {"X": [("ab", 9)]}, "X")
+    ring = best_ring([("x", 1, 1, "x")])
+    return [Ratio(1), [Ratio(1, 2)], {"a": Ratio(0)}, weave, (weave,), {weave: [weave]}, trace(searcher, "ab"),
+            far(searcher, weave), ring, [ring]]
 
 
 def texts_up_to(letters, size):
@@ -70,6 +85,22 @@ def search(searcher, text):
     return windows, told
 
 
+def pairs_at_windows(searcher, text):
+    """The windows and told pairs of a search, as a Trace has them."""
+    windows, told = search(searcher, text)
+    return tuple((place, state, tuple(reads)) for place, state, reads in windows), tuple(told)
+
+
+def drawn_searcher(draws):
+    """A searcher of any letters and width, of trees that read places again, read the letter behind, and tell much."""
+    letters = draws.one_of(["ab", "ba", "zx", "abc", "cab", "qxyz"])
+    width = 1 + draws.below(8)
+    states = 1 + draws.below(6)
+    depth = 2 + draws.below(5)
+    trees = [drawn_tree(draws, letters, width, states, depth) for _ in range(states)]
+    return Searcher(letters, width, trees)
+
+
 def parts_of(tree):
     """All trees of a tree, each one ahead of those within it, in order."""
     if tree[0] == "go":
@@ -102,3 +133,34 @@ def tells(depth):
     for _ in range(depth - 1):
         tree = ("tell", 0, tree)
     return tree
+
+
+def written_out(rules, name):
+    """The text of a name; its parts are those of rules, or strings."""
+    return "".join([written_out(rules, part) * count if part in rules else part * count for part, count in rules[name]])
+
+
+def size_of(rules, name):
+    return sum([(size_of(rules, part) if part in rules else len(part)) * count for part, count in rules[name]])
+
+
+def drawn_rules(draws, letters, counts, names=6):
+    """Rules, the first name being the root; each name stands only within those ahead of it."""
+    names = NAMES[:1 + draws.below(names)]
+    rules = {}
+    for at, name in enumerate(names):
+        pairs = []
+        for _ in range(1 + draws.below(4)):
+            inner = names[at + 1:]
+            part = draws.one_of(inner) if inner and draws.below(2) else draws.text(letters, 1 + draws.below(7))
+            pairs.append((part, draws.one_of(counts)))
+        rules[name] = pairs
+    return rules
+
+
+def small_rules(draws, letters):
+    """Drawn rules of at most 1500 letters."""
+    while True:
+        rules = drawn_rules(draws, letters, [1, 1, 2, 3, 1 + draws.below(40)])
+        if size_of(rules, "A") <= 1500:
+            return rules

@@ -20,6 +20,7 @@ METHODS = set("""append clear copy count endswith extend find get index insert i
 BARRED = """type typing typing_extensions enum Enum IntEnum StrEnum Flag IntFlag Generic Protocol ABC ABCMeta namedtuple
     NamedTuple TypedDict TYPE_CHECKING abstractmethod register mro elements open input law version_info with_traceback
     add_note breakpoint compile eval exec exit getattr globals hasattr help id locals setattr vars""".split()
+OPERATORS = """__init__ __eq__ __str__ __add__ __radd__ __sub__ __rsub__ __mul__ __rmul__ __neg__ __abs__""".split()
 STATEMENTS = (ast.Global, ast.AsyncFunctionDef, ast.AsyncFor, ast.AsyncWith, ast.Import, ast.GeneratorExp)
 
 
@@ -129,6 +130,37 @@ class Rules(unittest.TestCase):
             once = taken + [node.name for node in tree.body if hasattr(node, "name")]
             once += [node.targets[0].id for node in tree.body if isinstance(node, ast.Assign)]
             self.assertEqual(len(once), len(set(once)))
+
+    def test_classes(self):
+        attributes, methods = set(), set()
+        for path in FILES:
+            for node in ast.walk(told(path)[1]):
+                if isinstance(node, ast.ClassDef):
+                    methods |= {part.name for part in node.body if isinstance(part, ast.FunctionDef)}
+                if isinstance(node, ast.Attribute) and isinstance(node.ctx, ast.Store):
+                    attributes.add(node.attr)
+        for name in methods:
+            if name.startswith("__"):
+                self.assertIn(name, OPERATORS)
+        self.assertFalse(attributes & methods)
+        for kind in (str, int, list, dict, set, bytes, tuple):
+            self.assertFalse((attributes | methods - set(OPERATORS)) & set(dir(kind)))
+
+    def test_texts_of_objects_end_as_they_may(self):
+        for path in FILES:
+            for function in functions(told(path)[1]):
+                if function.name in ("__str__", "__repr__"):
+                    for node in ast.walk(function):
+                        if isinstance(node, ast.Return):
+                            self.assertTrue(isinstance(node.value, ast.JoinedStr) or node.value.func.id == "str")
+                    self.assertIsInstance(function.body[-1], ast.Return)
+
+    def test_powers_have_literal_exponents(self):
+        for path in FILES:
+            for node in ast.walk(told(path)[1]):
+                if isinstance(node, ast.BinOp) and isinstance(node.op, ast.Pow):
+                    self.assertIsInstance(node.right, ast.Constant)
+                    self.assertLessEqual(node.right.value, 64)
 
     def test_no_numbers_with_points(self):
         for path in FILES:

@@ -6,9 +6,14 @@ def is_list(value):
     return isinstance(value, (list, tuple))
 
 
+def is_integer(value):
+    """Whether a value is an integer; True and False are none."""
+    return isinstance(value, int) and not isinstance(value, bool)
+
+
 def is_whole(value, low, high):
-    """Whether a value is an integer from low to high; True and False are none."""
-    return isinstance(value, int) and not isinstance(value, bool) and low <= value <= high
+    """Whether a value is an integer from low to high."""
+    return is_integer(value) and low <= value <= high
 
 
 def are_letters(value):

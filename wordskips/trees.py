@@ -43,6 +43,27 @@ def renamed(tree, names):
     return (head, number, tuple([renamed(inner, names) for inner in rest]))
 
 
+def followed(tree, letters, signs):
+    """What a right tree of these letters does over signs of a text: its reads, its tells, and the go at its end.
+
+    The signs are those of the window, and the one behind it unless the text ends there. Where that one is to be read
+    and is not there, the search ends: the go is None.
+    """
+    reads = []
+    tells = []
+    while tree[0] != "go":
+        head, number, rest = tree
+        if head == "tell":
+            tells.append(number)
+            tree = rest
+        elif number < len(signs):
+            reads.append((number, signs[number]))
+            tree = rest[letters.index(signs[number])]
+        else:
+            return tuple(reads), tuple(tells), None
+    return tuple(reads), tuple(tells), tree
+
+
 def tree_text(letters, tree):
     """The text of a right tree."""
     head, number, rest = tree
