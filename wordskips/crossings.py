@@ -129,15 +129,12 @@ class Crossings:
         Also the entry to that copy, and the number of the pair from there on.
         """
         copies = 0
-        is_cut = False
         while True:
-            if not is_cut and (part, entry) in self._loops:
+            if (part, entry) in self._loops:
                 # Whole rounds lead to the same entry again.
                 entries, tallies, _ = self._loops[(part, entry)]
-                rounds = number // tallies[-1][2]
+                rounds, number = divmod(number, tallies[-1][2])
                 copies += rounds * len(entries)
-                number -= rounds * tallies[-1][2]
-                is_cut = True
             after, tally = self.past(part, entry)
             if number < tally[2]:
                 return copies, entry, number

@@ -66,8 +66,7 @@ class Ratio:
         if not _is_number(other):
             raise BadOver()
         part = _ratio(other)
-        if part.number == 0:
-            raise BadOver()
+        # If it is 0, the fraction below is over 0 and raises BadOver, too.
         return Ratio(self.number * part.over, self.over * part.number)
 
 
