@@ -162,6 +162,62 @@ class Rules(unittest.TestCase):
                     self.assertIsInstance(node.right, ast.Constant)
                     self.assertLessEqual(node.right.value, 64)
 
+    def test_methods_are_called_where_they_stand(self):
+        methods, properties = set(), set()
+        for path in FILES:
+            for node in ast.walk(told(path)[1]):
+                if isinstance(node, ast.ClassDef):
+                    for part in node.body:
+                        if isinstance(part, ast.FunctionDef):
+                            marks = [mark.id for mark in part.decorator_list]
+                            self.assertLessEqual(set(marks), {"property", "classmethod"})
+                            (properties if "property" in marks else methods).add(part.name)
+        self.assertTrue(properties)
+        for path in FILES:
+            nodes = list(ast.walk(told(path)[1]))
+            called = [node.func for node in nodes if isinstance(node, ast.Call)]
+            for node in nodes:
+                if isinstance(node, ast.Attribute) and node.attr in methods:
+                    self.assertIn(node, called, (path, node.attr))
+                if isinstance(node, ast.Attribute) and node.attr in properties:
+                    self.assertNotIn(node, called, (path, node.attr))
+
+    def test_imports_are_used(self):
+        for path in FILES:
+            _, tree = told(path)
+            taken = [name for node in tree.body if isinstance(node, ast.ImportFrom) for name in node.names]
+            used = {node.id for node in ast.walk(tree) if isinstance(node, ast.Name)}
+            for name in taken:
+                self.assertIsNone(name.asname)
+                self.assertIn(name.name, used, path)
+
+    def test_nothing_is_changed_while_it_is_gone_over(self):
+        for path in FILES:
+            for loop in ast.walk(told(path)[1]):
+                if isinstance(loop, ast.For):
+                    over = ast.unparse(loop.iter)
+                    for node in [inner for row in loop.body for inner in ast.walk(row)]:
+                        changed = None
+                        if isinstance(node, ast.Call) and isinstance(node.func, ast.Attribute):
+                            if node.func.attr in ("append", "extend", "insert", "pop", "remove", "clear", "update"):
+                                changed = ast.unparse(node.func.value)
+                        if isinstance(node, ast.Call) and isinstance(node.func, ast.Name):
+                            if node.func.id in ("heappush", "heappop"):
+                                changed = ast.unparse(node.args[0])
+                        if isinstance(node, ast.Subscript) and isinstance(node.ctx, ast.Store):
+                            changed = ast.unparse(node.value)
+                        self.assertNotEqual(changed, over, path)
+
+    def test_sets_stand_where_they_may(self):
+        for path in FILES:
+            nodes = list(ast.walk(told(path)[1]))
+            taken = [node.args[0] for node in nodes if isinstance(node, ast.Call) and isinstance(node.func, ast.Name)
+                     and node.func.id in ("sorted", "len") and node.args]
+            for node in nodes:
+                is_set = isinstance(node, ast.Call) and isinstance(node.func, ast.Name) and node.func.id == "set"
+                if is_set or isinstance(node, (ast.Set, ast.SetComp)):
+                    self.assertIn(node, taken, path)
+
     def test_no_numbers_with_points(self):
         for path in FILES:
             for node in ast.walk(told(path)[1]):

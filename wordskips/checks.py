@@ -48,5 +48,15 @@ def is_wish(value):
     return isinstance(value, str) and value in ("all", "apart", "first")
 
 
+def is_table(value, keys):
+    """Whether a value is a dict from just these keys, which are those of a dict."""
+    return isinstance(value, dict) and len(value) == len(keys) and all([key in value for key in keys])
+
+
+def copied(value):
+    """A copy of a dict; any other value itself."""
+    return {key: value[key] for key in value} if isinstance(value, dict) else value
+
+
 def _is_word(letters, value):
     return isinstance(value, str) and 1 <= len(value) <= 8 and wrong_sign(letters, value) is None

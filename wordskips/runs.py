@@ -23,6 +23,11 @@ def trace(searcher, text):
         raise BadText(wrong)
     if len(text) > MOST_LETTERS:
         raise TooMany("letters", len(text), MOST_LETTERS)
+    return searched(searcher, text)
+
+
+def searched(searcher, text):
+    """The search in a text of the letters, however long it is."""
     windows = []
     told = []
     place, state = 0, 0
